@@ -1,0 +1,238 @@
+"""[1] to [5] for every function: names, wrong arguments, their order, and what becomes of lists."""
+
+import importlib
+import inspect
+import unittest
+from copy import deepcopy
+
+from tests import helper
+from twinties import errors
+
+INTERFACE = {
+    "twinties.companies": [
+        "is_company(kinds, value)", "tie(kinds, company, couple)", "stand_alike(kinds, company, couple)",
+        "alike_couples(kinds, company)", "among(kinds, company, lot)", "renamed(kinds, company, order)",
+        "differing(kinds, one, other)", "is_deed(kinds, company, value)", "deeds(kinds, company)",
+        "done(kinds, company, deed)", "led(kinds, company, road)", "is_road(kinds, company, value)",
+    ],
+    "twinties.houses": [
+        "is_house(kinds, company, lot)", "parting_person(kinds, company, lot)", "least_house(kinds, company, lot)",
+        "how_many_houses(kinds, company)", "all_houses(kinds, company)",
+    ],
+    "twinties.knots": ["is_strong(kinds, company, lot)", "knots(kinds, company)", "knot_of(kinds, company, lot)"],
+}
+
+FIVE = [[], [1], [1, 1], [0, 0, 0], [0, 0, 0, 1]]
+
+WRONG_DEEDS = [
+    None, True, 0, "010", "", (), [], {}, [0, 1, 0], (0, 1), (0, 1, 0, 0), ((0, 1), 0), (1, 0, 0), (1, 1, 0), (0, 5, 1),
+    (-1, 1, 0), (0, 1, 1), (0, 1, 2), (0, 1, -1), (0, 1, False), (False, 1, 0), (0, True, 0), (0, 1, None),
+    (0, 1, "0"), ("0", 1, 0), ([0], 1, 0), (0, 1, [0]), (0, 3, 1), (2, 4, 1), (0, 1, helper.THIRTY_FIGURES),
+]
+
+WRONG = {
+    "kinds": (errors.InvalidNumber, helper.WRONG_KINDS),
+    "company": (errors.InvalidCompany, helper.WRONG_COMPANIES),
+    "one": (errors.InvalidCompany, helper.WRONG_COMPANIES),
+    "other": (errors.InvalidCompany, helper.WRONG_COMPANIES),
+    "couple": (errors.InvalidCouple, helper.WRONG_COUPLES),
+    "lot": (errors.InvalidLot, helper.WRONG_LOTS),
+    "order": (errors.InvalidLot, helper.WRONG_ORDERS),
+    "deed": (errors.InvalidDeed, WRONG_DEEDS),
+    "road": (errors.InvalidDeed, [None, True, 0, "", (), ((0, 1, 0),), (0, 1, 0), {}]),
+}
+
+# Nothing may be refused with these.
+GOOD = {
+    "kinds": 2, "company": FIVE, "couple": (0, 1), "lot": [0, 1, 3], "order": [4, 2, 0, 1, 3], "one": FIVE,
+    "other": [[], [0], [1, 1], [0, 0, 0], [0, 0, 0, 0]], "deed": (0, 1, 0), "road": [(0, 1, 0), (3, 4, 0)],
+    "marks": [(0, 2, 0), (3, 4, 1)],
+}
+SAMPLES = [
+    GOOD,
+    {
+        "kinds": 3, "company": [[], [1], [0, 1], [0, 0, 1], [1, 2, 1, 0]], "couple": (1, 4), "lot": [1, 3, 4],
+        "order": [0, 1, 2, 3, 4], "one": [[], [1], [0, 1], [0, 0, 1], [1, 2, 1, 0]],
+        "other": [[], [1], [0, 2], [0, 0, 1], [1, 0, 1, 0]], "deed": (1, 4, 0), "road": [(1, 4, 0), (1, 4, 1)],
+        "marks": [(1, 4, 0)],
+    },
+    {
+        "kinds": 9, "company": [[]], "lot": [0], "order": [0], "one": [[]], "other": [[]], "road": [], "marks": [],
+    },
+    {
+        "kinds": 9, "company": [[], [8]], "couple": (0, 1), "lot": [0, 1], "order": [1, 0], "one": [[], [8]],
+        "other": [[], [0]], "deed": (0, 1, 7), "road": [(0, 1, 7), (0, 1, 8), (0, 1, 3)], "marks": [(0, 1, 5)],
+    },
+    {
+        "kinds": 2, "company": helper.layered([4, 2, 3]), "couple": (0, 3), "lot": [0, 3, 8], "order": list(range(9)),
+        "one": helper.layered([4, 2, 3]), "other": helper.row_of_friends(9), "deed": (0, 1, 1), "road": [(0, 1, 1)],
+        "marks": [],
+    },
+]
+VALUES = {"is_company": ["company"], "is_deed": ["deed"], "is_road": ["road"], "is_parting_lot": ["lot"]}
+
+
+def landed():
+    """Each function of the interface, with the names of its parameters."""
+    for module, rows in INTERFACE.items():
+        for row in rows:
+            name, names = row.rstrip(")").split("(")
+            yield module, getattr(importlib.import_module(module), name), names.split(", ")
+
+
+def arguments_for(function, names, sample):
+    """The arguments of a sample, None if it has not all that the function needs."""
+    wanted = [VALUES[function.__name__][0] if name == "value" else name for name in names]
+    if any(name not in sample for name in wanted):
+        return None
+    return [deepcopy(sample[name]) for name in wanted]
+
+
+def calls():
+    """Each function with the names of its parameters and with arguments of every sample that fits."""
+    for _, function, names in landed():
+        for sample in SAMPLES:
+            arguments = arguments_for(function, names, sample)
+            if arguments is not None:
+                yield function, names, arguments
+
+
+class InterfaceTest(unittest.TestCase):
+    def test_each_function_stands_in_its_file_with_its_parameters(self):
+        for module, function, names in landed():
+            self.assertTrue(inspect.isfunction(function))
+            self.assertEqual(function.__module__, module)
+            parameters = inspect.signature(function).parameters.values()
+            self.assertEqual([parameter.name for parameter in parameters], names, function)
+            for parameter in parameters:
+                self.assertIs(parameter.default, inspect.Parameter.empty)
+                self.assertIs(parameter.kind, inspect.Parameter.POSITIONAL_OR_KEYWORD)
+
+    def test_arguments_are_passed_by_position_or_by_name(self):
+        for function, names, arguments in calls():
+            by_name = function(**dict(zip(names, arguments)))
+            self.assertEqual(function(*arguments), by_name)
+
+
+class RefusalTest(unittest.TestCase):
+    def good(self, function, names):
+        return arguments_for(function, names, GOOD)
+
+    def test_each_wrong_argument_is_told(self):
+        for _, function, names in landed():
+            for place, name in enumerate(names):
+                for wrong in WRONG[name][1] if name in WRONG else []:
+                    with self.subTest(function=function.__name__, name=name, wrong=wrong):
+                        arguments = self.good(function, names)
+                        arguments[place] = wrong
+                        helper.refusal(self, WRONG[name][0], wrong, function, *arguments)
+
+    def test_of_two_wrong_arguments_the_one_ahead_is_told(self):
+        for _, function, names in landed():
+            told = [name for name in names if name in WRONG]
+            for place, name in enumerate(told):
+                for behind in told[place + 1:]:
+                    for wrong in WRONG[name][1]:
+                        for also in WRONG[behind][1][:3]:
+                            arguments = dict(zip(names, self.good(function, names)))
+                            arguments[name] = wrong
+                            arguments[behind] = also
+                            helper.refusal(self, WRONG[name][0], wrong, function, **arguments)
+
+    def test_with_any_value_the_other_arguments_are_checked_first(self):
+        for _, function, names in landed():
+            if "value" in names:
+                for name in names[:-1]:
+                    for value in helper.ANYTHING:
+                        arguments = dict(zip(names, self.good(function, names)))
+                        wrong = WRONG[name][1][-1]
+                        arguments[name] = wrong
+                        arguments["value"] = value
+                        helper.refusal(self, WRONG[name][0], wrong, function, **arguments)
+
+    def test_unlike_numbers_of_people_are_told_behind_both(self):
+        four = [[], [0], [0, 0], [0, 0, 0]]
+        for _, function, names in landed():
+            if "other" in names:
+                arguments = dict(zip(names, self.good(function, names)))
+                for one, other in ((FIVE, four), (four, FIVE), ([[]], FIVE), (FIVE, [[]])):
+                    arguments["one"] = one
+                    arguments["other"] = other
+                    helper.refusal(self, errors.Unlike, other, function, **arguments)
+                    for wrong in WRONG["kinds"][1]:
+                        helper.refusal(self, errors.InvalidNumber, wrong, function, **{**arguments, "kinds": wrong})
+                    if "lot" in names:
+                        for wrong in WRONG["lot"][1]:
+                            helper.refusal(self, errors.Unlike, other, function, **{**arguments, "lot": wrong})
+
+    def test_a_company_of_more_kinds_is_refused(self):
+        more = [[], [1], [1, 1], [0, 0, 0], [0, 0, 0, 2]]
+        for _, function, names in landed():
+            for place, name in enumerate(names):
+                if name in ("company", "one", "other"):
+                    arguments = self.good(function, names)
+                    arguments[place] = more
+                    helper.refusal(self, errors.InvalidCompany, more, function, *arguments)
+                    arguments[0] = 3
+                    function(*arguments)
+
+    def test_any_value_is_taken_where_it_is_judged(self):
+        for _, function, names in landed():
+            if "value" in names:
+                arguments = self.good(function, names)
+                for value in helper.ANYTHING:
+                    arguments[-1] = value
+                    with self.subTest(function=function.__name__, value=value):
+                        self.assertIs(function(*arguments), False)
+
+
+class MannersTest(unittest.TestCase):
+    def test_arguments_stay_as_they_were(self):
+        for function, names, arguments in calls():
+            before = deepcopy(arguments)
+            function(*arguments)
+            self.assertEqual(arguments, before, function)
+
+    def test_arguments_stay_as_they_were_when_they_are_refused(self):
+        for _, function, names in landed():
+            for place, name in enumerate(names):
+                for wrong in WRONG[name][1] if name in WRONG else []:
+                    arguments = arguments_for(function, names, GOOD)
+                    arguments[place] = deepcopy(wrong)
+                    before = deepcopy(arguments)
+                    with self.assertRaises(errors.TieError):
+                        function(*arguments)
+                    self.assertEqual(arguments, before)
+
+    def test_no_list_occurs_twice_in_a_result_or_comes_from_an_argument(self):
+        for function, names, arguments in calls():
+            result = function(*arguments)
+            found = [id(one) for one in helper.lists_in(result) + helper.lists_in(arguments)]
+            self.assertEqual(len(set(found)), len(found), function)
+
+    def test_results_are_made_of_plain_values(self):
+        for function, names, arguments in calls():
+            result = function(*arguments)
+            self.assertTrue(helper.plain(result), function)
+            if "value" in names:
+                self.assertIs(type(result), bool)
+
+    def test_changing_a_result_changes_no_later_answer(self):
+        for function, names, arguments in calls():
+            first = function(*arguments)
+            kept = deepcopy(first)
+            for one in helper.lists_in(first):
+                one.clear()
+            self.assertEqual(function(*arguments), kept, function)
+
+    def test_changing_an_argument_afterwards_changes_no_result(self):
+        for function, names, arguments in calls():
+            result = function(*arguments)
+            kept = deepcopy(result)
+            for one in helper.lists_in(arguments):
+                one.append("changed")
+            self.assertEqual(result, kept, function)
+
+
+if __name__ == "__main__":
+    unittest.main()

@@ -1,0 +1,1 @@
+"""Ties between those who stand alike, and what turning them can make."""
