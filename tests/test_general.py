@@ -20,6 +20,22 @@ INTERFACE = {
         "how_many_houses(kinds, company)", "all_houses(kinds, company)",
     ],
     "twinties.knots": ["is_strong(kinds, company, lot)", "knots(kinds, company)", "knot_of(kinds, company, lot)"],
+    "twinties.letdown": [
+        "knots_left(kinds, company)", "base_of(kinds, company)", "are_joined(kinds, one, other)",
+        "parting_couple(kinds, one, other)",
+    ],
+    "twinties.groups": [
+        "groups_of(kinds, company)", "marks_of(kinds, company)", "marked(kinds, company, marks)",
+        "movers(kinds, company)",
+    ],
+    "twinties.words": [
+        "word_of(kinds, company, lot)", "words_of(kinds, company)", "word_tally(kinds, company)",
+        "firm_fours(kinds, company)", "same_words(kinds, one, other)",
+    ],
+    "twinties.fours": [
+        "joined_among(kinds, one, other, lot)", "parting_lot(kinds, one, other)",
+        "is_parting_lot(kinds, one, other, value)", "lone_couple(kinds, one, other)",
+    ],
 }
 
 FIVE = [[], [1], [1, 1], [0, 0, 0], [0, 0, 0, 1]]
@@ -28,6 +44,14 @@ WRONG_DEEDS = [
     None, True, 0, "010", "", (), [], {}, [0, 1, 0], (0, 1), (0, 1, 0, 0), ((0, 1), 0), (1, 0, 0), (1, 1, 0), (0, 5, 1),
     (-1, 1, 0), (0, 1, 1), (0, 1, 2), (0, 1, -1), (0, 1, False), (False, 1, 0), (0, True, 0), (0, 1, None),
     (0, 1, "0"), ("0", 1, 0), ([0], 1, 0), (0, 1, [0]), (0, 3, 1), (2, 4, 1), (0, 1, helper.THIRTY_FIGURES),
+]
+
+# The groups of FIVE are ([0, 1, 2], 1) and ([3, 4], 0).
+WRONG_MARKS = [
+    None, True, 0, "", (), {}, ((0, 1, 0),), (0, 1, 0), [0], [None], [(0, 1)], [[0, 1, 0]], [(0, 1, 0, 0)], [(0, 1, 1)],
+    [(0, 1, 2)], [(0, 1, -1)], [(0, 1, False)], [(False, 1, 0)], [(0, True, 0)], [(0, 1, None)], [(1, 0, 0)],
+    [(0, 0, 0)], [(0, 5, 0)], [(0, 3, 1)], [(0, 3, 0)], [(3, 4, 0)], [(0, 1, 0), (1, 2, 0)], [(0, 1, 0), (0, 2, 0)],
+    [(0, 1, 0), (0, 1, 0)], [(3, 4, 1), (0, 1, 0)], [(0, 1, 0), (3, 4, "1")], [(0, 1, 0), None],
 ]
 
 WRONG = {
@@ -40,6 +64,7 @@ WRONG = {
     "order": (errors.InvalidLot, helper.WRONG_ORDERS),
     "deed": (errors.InvalidDeed, WRONG_DEEDS),
     "road": (errors.InvalidDeed, [None, True, 0, "", (), ((0, 1, 0),), (0, 1, 0), {}]),
+    "marks": (errors.InvalidWishes, WRONG_MARKS),
 }
 
 # Nothing may be refused with these.
@@ -84,6 +109,8 @@ def arguments_for(function, names, sample):
     """The arguments of a sample, None if it has not all that the function needs."""
     wanted = [VALUES[function.__name__][0] if name == "value" else name for name in names]
     if any(name not in sample for name in wanted):
+        return None
+    if function.__name__ == "word_of" and len(sample["lot"]) != 3:
         return None
     return [deepcopy(sample[name]) for name in wanted]
 
