@@ -1,5 +1,6 @@
 """What the tests share: companies, definitions taken word by word, and wrong values."""
 
+from functools import lru_cache
 from itertools import combinations, product
 
 from twinties.companies import deeds, done
@@ -128,6 +129,70 @@ def classes_by_deeds(kinds, people):
         classes.append(sorted(members))
         left = [company for company in left if company not in members]
     return classes
+
+
+class Web:
+    """The class of a company, as rows of deeds from company to company tell it, and nothing else."""
+
+    def __init__(self, kinds, company):
+        self.kinds = kinds
+        found = [company]
+        for one in found:
+            for deed in deeds(kinds, one):
+                behind = done(kinds, one, deed)
+                if behind not in found:
+                    found.append(behind)
+        self.members = sorted(found)
+        number = {repr(one): place for place, one in enumerate(self.members)}
+        self.steps = [
+            [(deed, number[repr(done(kinds, one, deed))]) for deed in deeds(kinds, one)] for one in self.members
+        ]
+        self.far = [self.layers(place) for place in range(len(self.members))]
+
+    def layers(self, start):
+        """How many deeds each company is away from one, at least."""
+        far = {start: 0}
+        row = [start]
+        for place in row:
+            for _, behind in self.steps[place]:
+                if behind not in far:
+                    far[behind] = far[place] + 1
+                    row.append(behind)
+        return [far[place] for place in range(len(self.members))]
+
+    def roads(self, start, end):
+        """All shortest roads from one company to another."""
+        if start == end:
+            return [[]]
+        return [
+            [deed] + rest for deed, behind in self.steps[start] if self.far[behind][end] < self.far[start][end]
+            for rest in self.roads(behind, end)
+        ]
+
+    def between(self, start, end):
+        """The companies that shortest roads from one company to another lead past."""
+        whole = self.far[start][end]
+        return [
+            place for place in range(len(self.members)) if self.far[start][place] + self.far[place][end] == whole
+        ]
+
+
+# One group of two to six people, several groups, loose pairs at a prime knot and by themselves, nobody in a group.
+STARTS = [
+    (2, [[]]), (9, [[]]), (2, [[], [1]]), (3, [[], [2]]), (9, [[], [4]]), (2, [[], [0], [0, 0]]), (2, [[], [1], [0, 1]]),
+    (3, [[], [1], [1, 1]]), (5, [[], [4], [2, 2]]), (3, [[], [0], [1, 2]]), (2, [[1] * person for person in range(4)]),
+    (3, [[2] * person for person in range(4)]), (2, [[0] * person for person in range(5)]),
+    (2, [[1] * person for person in range(6)]), (2, [[], [1], [1, 1], [0, 0, 0], [0, 0, 0, 1]]),
+    (3, [[], [1], [1, 1], [0, 0, 0], [0, 0, 0, 1]]), (2, [[], [1], [0, 1], [0, 0, 1]]),
+    (3, [[], [1], [0, 1], [0, 0, 1], [1, 2, 1, 0]]), (2, [[], [1], [0, 1], [0, 0, 1], [1, 0, 1, 0], [0, 1, 0, 1, 1]]),
+    (2, [[], [1], [1, 1], [0, 0, 0], [0, 0, 0, 0], [0, 0, 0, 0, 1]]), (2, [[], [1], [1, 1], [0, 0, 0]]),
+]
+
+
+@lru_cache
+def webs():
+    """The classes of some companies, among them all that are joined with one of three people or fewer."""
+    return [Web(kinds, company) for kinds, company in STARTS]
 
 
 def layered(sizes, kinds=2):

@@ -36,6 +36,17 @@ INTERFACE = {
         "joined_among(kinds, one, other, lot)", "parting_lot(kinds, one, other)",
         "is_parting_lot(kinds, one, other, value)", "lone_couple(kinds, one, other)",
     ],
+    "twinties.roads": [
+        "distance(kinds, one, other)", "road(kinds, one, other)", "is_shortest(kinds, one, other, value)",
+        "first_deeds(kinds, one, other)", "barring(kinds, one, other)", "bundles(kinds, one, other)",
+        "how_many_roads(kinds, one, other)", "is_between(kinds, one, other, value)",
+        "how_many_between(kinds, one, other)", "farthest(kinds, company)", "greatest_distance(kinds, company)",
+    ],
+    "twinties.comers": [
+        "middle(kinds, one, other, third)", "stay_joined(kinds, one, other, ties)", "how_many_stay(kinds, one, other)",
+    ],
+    "twinties.zigzags": ["zigzag_number(count)", "ring_number(count)"],
+    "twinties.sizes": ["group_size(kinds, people)", "class_size(kinds, company)", "sizes_by_deeds(kinds, company)"],
 }
 
 FIVE = [[], [1], [1, 1], [0, 0, 0], [0, 0, 0, 1]]
@@ -54,6 +65,14 @@ WRONG_MARKS = [
     [(0, 1, 0), (0, 1, 0)], [(3, 4, 1), (0, 1, 0)], [(0, 1, 0), (3, 4, "1")], [(0, 1, 0), None],
 ]
 
+WRONG_COUNTS = [None, True, False, -1, -2, -helper.THIRTY_FIGURES, "4", "", (), (4,), [], [4], {}, {4: 4}]
+
+# For five people and two kinds.
+WRONG_TIES = [
+    None, True, 0, "00000", "", (), (0, 0, 0, 0, 0), {}, [], [0], [0] * 4, [0] * 6, [0, 0, 0, 0, 2], [-1, 0, 0, 0, 0],
+    [0, 0, True, 0, 0], [False, 0, 0, 0, 0], [None] * 5, ["0"] * 5, [[0]] * 5, [0, 0, 0, 0, helper.THIRTY_FIGURES],
+]
+
 WRONG = {
     "kinds": (errors.InvalidNumber, helper.WRONG_KINDS),
     "company": (errors.InvalidCompany, helper.WRONG_COMPANIES),
@@ -65,13 +84,18 @@ WRONG = {
     "deed": (errors.InvalidDeed, WRONG_DEEDS),
     "road": (errors.InvalidDeed, [None, True, 0, "", (), ((0, 1, 0),), (0, 1, 0), {}]),
     "marks": (errors.InvalidWishes, WRONG_MARKS),
+    "third": (errors.InvalidCompany, helper.WRONG_COMPANIES),
+    "ties": (errors.InvalidCompany, WRONG_TIES),
+    "count": (errors.InvalidNumber, WRONG_COUNTS),
+    "people": (errors.InvalidNumber, WRONG_COUNTS),
 }
 
 # Nothing may be refused with these.
 GOOD = {
     "kinds": 2, "company": FIVE, "couple": (0, 1), "lot": [0, 1, 3], "order": [4, 2, 0, 1, 3], "one": FIVE,
     "other": [[], [0], [1, 1], [0, 0, 0], [0, 0, 0, 0]], "deed": (0, 1, 0), "road": [(0, 1, 0), (3, 4, 0)],
-    "marks": [(0, 2, 0), (3, 4, 1)],
+    "marks": [(0, 2, 0), (3, 4, 1)], "third": [[], [1], [1, 0], [0, 0, 0], [0, 0, 0, 0]], "ties": [1, 1, 0, 0, 1],
+    "count": 6, "people": 5,
 }
 SAMPLES = [
     GOOD,
@@ -83,10 +107,12 @@ SAMPLES = [
     },
     {
         "kinds": 9, "company": [[]], "lot": [0], "order": [0], "one": [[]], "other": [[]], "road": [], "marks": [],
+        "third": [[]], "ties": [8], "count": 300, "people": 0,
     },
     {
         "kinds": 9, "company": [[], [8]], "couple": (0, 1), "lot": [0, 1], "order": [1, 0], "one": [[], [8]],
         "other": [[], [0]], "deed": (0, 1, 7), "road": [(0, 1, 7), (0, 1, 8), (0, 1, 3)], "marks": [(0, 1, 5)],
+        "third": [[], [3]], "ties": [5, 5], "people": 300,
     },
     {
         "kinds": 2, "company": helper.layered([4, 2, 3]), "couple": (0, 3), "lot": [0, 3, 8], "order": list(range(9)),
@@ -94,7 +120,10 @@ SAMPLES = [
         "marks": [],
     },
 ]
-VALUES = {"is_company": ["company"], "is_deed": ["deed"], "is_road": ["road"], "is_parting_lot": ["lot"]}
+VALUES = {
+    "is_company": "company", "is_deed": "deed", "is_road": "road", "is_parting_lot": "lot", "is_shortest": "road",
+    "is_between": "other",
+}
 
 
 def landed():
@@ -107,8 +136,11 @@ def landed():
 
 def arguments_for(function, names, sample):
     """The arguments of a sample, None if it has not all that the function needs."""
-    wanted = [VALUES[function.__name__][0] if name == "value" else name for name in names]
+    wanted = [VALUES[function.__name__] if name == "value" else name for name in names]
     if any(name not in sample for name in wanted):
+        return None
+    # The companies of a sample are joined exactly if it has ties for a person who comes.
+    if function.__name__ == "how_many_stay" and "ties" not in sample:
         return None
     if function.__name__ == "word_of" and len(sample["lot"]) != 3:
         return None

@@ -12,6 +12,11 @@ def is_whole(value):
     return isinstance(value, int) and not isinstance(value, bool)
 
 
+def is_count(value):
+    """Whether a value is a whole number of at least 0."""
+    return is_whole(value) and value >= 0
+
+
 def is_below(value, bound):
     """Whether a value is a whole number from 0 to one less than a bound."""
     return is_whole(value) and 0 <= value < bound
@@ -61,6 +66,12 @@ def check_kinds(kinds):
     """Refuse what is no number of kinds."""
     if not are_kinds(kinds):
         raise InvalidNumber(kinds)
+
+
+def check_count(value):
+    """Refuse what is no count."""
+    if not is_count(value):
+        raise InvalidNumber(value)
 
 
 def check_company(kinds, company):

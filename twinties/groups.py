@@ -1,10 +1,8 @@
 """Groups of people whose ties can be turned, and the marks that tell how they are ([17] to [19])."""
 
-from itertools import combinations
-
 from twinties.checks import check_company, is_below, is_couple
 from twinties.errors import InvalidWishes
-from twinties.letdown import base_company, groups_let_down
+from twinties.letdown import base_company, groups_let_down, marks_within
 
 
 def is_mark(kinds, company, groups, value):
@@ -36,12 +34,7 @@ def groups_of(kinds, company):
 def marks_of(kinds, company):
     """The list, in order, of the tuples `(a, b, kind)` of all marks."""
     check_company(kinds, company)
-    return sorted([
-        (one, other, company[other][one])
-        for people, base in groups_let_down(company)
-        for one, other in combinations(people, 2)
-        if company[other][one] != base
-    ])
+    return sorted([mark for group in groups_let_down(company) for mark in marks_within(company, group)])
 
 
 def marked(kinds, company, marks):

@@ -29,13 +29,40 @@ def groups_let_down(company):
     return sorted([group for group in groups if len(group[0]) > 1], key=lambda group: group[0])
 
 
+def put_back(company, groups):
+    """The company in which all ties within groups are put back to what the base has."""
+    behind = [list(row) for row in company]
+    for people, base in groups:
+        for one, other in combinations(people, 2):
+            behind[other][one] = 0 if base is None else base
+    return behind
+
+
 def base_company(company):
     """The company in which all that deeds can turn is put back."""
-    put_back = [list(row) for row in company]
-    for people, base in groups_let_down(company):
-        for one, other in combinations(people, 2):
-            put_back[other][one] = 0 if base is None else base
-    return put_back
+    return put_back(company, groups_let_down(company))
+
+
+def marks_within(company, group):
+    """The tuples `(a, b, kind)` of the couples of a group with a tie that is not of its base, in order."""
+    people, base = group
+    return [
+        (one, other, company[other][one]) for one, other in combinations(people, 2)
+        if company[other][one] != base
+    ]
+
+
+def is_of_class(company, groups, other):
+    """Whether another company of as many people is joined with a company that has such groups.
+
+    It is if its ties are the same but for those within groups, and no person has two marks ([18]): this takes the
+    groups of just one of both.
+    """
+    for group in groups:
+        named = [person for low, high, _ in marks_within(other, group) for person in (low, high)]
+        if len(set(named)) < len(named):
+            return False
+    return put_back(company, groups) == put_back(other, groups)
 
 
 def knots_left(kinds, company):
@@ -56,7 +83,7 @@ def base_of(kinds, company):
 def are_joined(kinds, one, other):
     """Whether a row of deeds leads from one company to another."""
     check_companies(kinds, one, other)
-    return base_company(one) == base_company(other)
+    return is_of_class(one, groups_let_down(one), other)
 
 
 def parting_couple(kinds, one, other):
