@@ -47,6 +47,24 @@ INTERFACE = {
     ],
     "twinties.zigzags": ["zigzag_number(count)", "ring_number(count)"],
     "twinties.sizes": ["group_size(kinds, people)", "class_size(kinds, company)", "sizes_by_deeds(kinds, company)"],
+    "twinties.classes": [
+        "members(kinds, company)", "is_member(kinds, company, value)", "member_at(kinds, company, number)",
+        "member_number(kinds, company)", "next_member(kinds, company)", "how_many_classes(kinds, people)",
+        "how_many_alone(kinds, people)",
+    ],
+    "twinties.ties": [
+        "is_free(kinds, company, couple)", "kinds_of(kinds, company, couple)", "free_couples(kinds, company)",
+        "sure_four(kinds, company, couple)", "kinds_together(kinds, company, couple, second)",
+    ],
+    "twinties.tallies": [
+        "tie_bounds(kinds, company, kind)", "how_many_with(kinds, company, kind, number)",
+        "tallies(kinds, company, kind)", "person_bounds(kinds, company, person, kind)",
+        "sure_friends(kinds, company, person, kind)",
+    ],
+    "twinties.prices": [
+        "price_of(kinds, company, prices)", "cheapest(kinds, company, prices)",
+        "is_cheapest(kinds, company, prices, value)", "how_many_cheapest(kinds, company, prices)",
+    ],
 }
 
 FIVE = [[], [1], [1, 1], [0, 0, 0], [0, 0, 0, 1]]
@@ -73,6 +91,31 @@ WRONG_TIES = [
     [0, 0, True, 0, 0], [False, 0, 0, 0, 0], [None] * 5, ["0"] * 5, [[0]] * 5, [0, 0, 0, 0, helper.THIRTY_FIGURES],
 ]
 
+# For five people.
+WRONG_PERSONS = [None, True, False, -1, 5, 6, -helper.THIRTY_FIGURES, helper.THIRTY_FIGURES, "0", (), (0,), [], [0], {}]
+
+# For two kinds.
+WRONG_KIND = [None, True, False, -1, 2, 3, 9, helper.THIRTY_FIGURES, "0", "", (), (0,), [], [0], {}, {0: 0}]
+
+PRICES = [
+    [], [[3, -1]], [[0, 0], [7, 8]], [[1, 2], [2, 1], [5, 5]], [[4, 4], [0, 1], [-5, 2], [helper.THIRTY_FIGURES, 6]],
+]
+
+
+def prices_with(wrong):
+    return PRICES[:4] + [PRICES[4][:3] + [wrong]]
+
+
+# For five people and two kinds.
+WRONG_PRICES = [
+    None, True, 0, "", (), [], {}, [[]], PRICES[:4], PRICES + [[[0, 0]] * 5], tuple(PRICES), [None] * 5, [[]] * 5,
+    [(), *PRICES[1:]], [[[0, 0]], *PRICES[1:]], [[], tuple(PRICES[1]), *PRICES[2:]], PRICES[:4] + [PRICES[4][:3]],
+    PRICES[:4] + [PRICES[4] + [[0, 0]]],
+    *[prices_with(wrong) for wrong in (
+        None, 0, "00", (0, 0), [], [0], [0, 0, 0], [0, None], [True, 0], [0, False], ["0", 0], [[0], 0], [0, (0,)], {},
+    )],
+]
+
 WRONG = {
     "kinds": (errors.InvalidNumber, helper.WRONG_KINDS),
     "company": (errors.InvalidCompany, helper.WRONG_COMPANIES),
@@ -88,6 +131,11 @@ WRONG = {
     "ties": (errors.InvalidCompany, WRONG_TIES),
     "count": (errors.InvalidNumber, WRONG_COUNTS),
     "people": (errors.InvalidNumber, WRONG_COUNTS),
+    "number": (errors.InvalidNumber, WRONG_COUNTS),
+    "kind": (errors.InvalidNumber, WRONG_KIND),
+    "person": (errors.InvalidPerson, WRONG_PERSONS),
+    "second": (errors.InvalidCouple, helper.WRONG_COUPLES),
+    "prices": (errors.InvalidPrices, WRONG_PRICES),
 }
 
 # Nothing may be refused with these.
@@ -95,7 +143,7 @@ GOOD = {
     "kinds": 2, "company": FIVE, "couple": (0, 1), "lot": [0, 1, 3], "order": [4, 2, 0, 1, 3], "one": FIVE,
     "other": [[], [0], [1, 1], [0, 0, 0], [0, 0, 0, 0]], "deed": (0, 1, 0), "road": [(0, 1, 0), (3, 4, 0)],
     "marks": [(0, 2, 0), (3, 4, 1)], "third": [[], [1], [1, 0], [0, 0, 0], [0, 0, 0, 0]], "ties": [1, 1, 0, 0, 1],
-    "count": 6, "people": 5,
+    "count": 6, "people": 5, "number": 3, "kind": 1, "person": 3, "second": (1, 2), "prices": PRICES,
 }
 SAMPLES = [
     GOOD,
@@ -103,26 +151,29 @@ SAMPLES = [
         "kinds": 3, "company": [[], [1], [0, 1], [0, 0, 1], [1, 2, 1, 0]], "couple": (1, 4), "lot": [1, 3, 4],
         "order": [0, 1, 2, 3, 4], "one": [[], [1], [0, 1], [0, 0, 1], [1, 2, 1, 0]],
         "other": [[], [1], [0, 2], [0, 0, 1], [1, 0, 1, 0]], "deed": (1, 4, 0), "road": [(1, 4, 0), (1, 4, 1)],
-        "marks": [(1, 4, 0)],
+        "marks": [(1, 4, 0)], "number": 2, "kind": 2, "person": 4, "second": (0, 4),
+        "prices": [[[1, 0, -2] for _ in range(person)] for person in range(5)],
     },
     {
         "kinds": 9, "company": [[]], "lot": [0], "order": [0], "one": [[]], "other": [[]], "road": [], "marks": [],
-        "third": [[]], "ties": [8], "count": 300, "people": 0,
+        "third": [[]], "ties": [8], "count": 300, "people": 0, "number": 0, "kind": 8, "person": 0, "prices": [[]],
     },
     {
         "kinds": 9, "company": [[], [8]], "couple": (0, 1), "lot": [0, 1], "order": [1, 0], "one": [[], [8]],
         "other": [[], [0]], "deed": (0, 1, 7), "road": [(0, 1, 7), (0, 1, 8), (0, 1, 3)], "marks": [(0, 1, 5)],
-        "third": [[], [3]], "ties": [5, 5], "people": 300,
+        "third": [[], [3]], "ties": [5, 5], "people": 300, "number": 8, "kind": 3, "person": 1,
+        "prices": [[], [[0, 1, 2, -3, 4, 5, 6, 7, -3]]],
     },
     {
         "kinds": 2, "company": helper.layered([4, 2, 3]), "couple": (0, 3), "lot": [0, 3, 8], "order": list(range(9)),
         "one": helper.layered([4, 2, 3]), "other": helper.row_of_friends(9), "deed": (0, 1, 1), "road": [(0, 1, 1)],
-        "marks": [],
+        "marks": [], "number": 19, "kind": 0, "person": 8, "second": (0, 1),
+        "prices": [[[person, before] for before in range(person)] for person in range(9)],
     },
 ]
 VALUES = {
     "is_company": "company", "is_deed": "deed", "is_road": "road", "is_parting_lot": "lot", "is_shortest": "road",
-    "is_between": "other",
+    "is_between": "other", "is_member": "other", "is_cheapest": "other",
 }
 
 
@@ -143,6 +194,8 @@ def arguments_for(function, names, sample):
     if function.__name__ == "how_many_stay" and "ties" not in sample:
         return None
     if function.__name__ == "word_of" and len(sample["lot"]) != 3:
+        return None
+    if function.__name__ in ("how_many_classes", "how_many_alone") and not 1 <= sample["people"] <= 40:
         return None
     return [deepcopy(sample[name]) for name in wanted]
 
@@ -232,8 +285,9 @@ class RefusalTest(unittest.TestCase):
                     arguments = self.good(function, names)
                     arguments[place] = more
                     helper.refusal(self, errors.InvalidCompany, more, function, *arguments)
-                    arguments[0] = 3
-                    function(*arguments)
+                    if "prices" not in names:
+                        arguments[0] = 3
+                        function(*arguments)
 
     def test_any_value_is_taken_where_it_is_judged(self):
         for _, function, names in landed():

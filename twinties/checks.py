@@ -1,6 +1,6 @@
 """What values are, and the errors for what they should be and are not ([2] to [5])."""
 
-from twinties.errors import InvalidCompany, InvalidCouple, InvalidLot, InvalidNumber, Unlike
+from twinties.errors import InvalidCompany, InvalidCouple, InvalidLot, InvalidNumber, InvalidPerson, Unlike
 
 LEAST_KINDS = 2
 MOST_KINDS = 9
@@ -74,6 +74,12 @@ def check_count(value):
         raise InvalidNumber(value)
 
 
+def check_below(value, bound):
+    """Refuse what is no whole number from 0 to one less than a bound."""
+    if not is_below(value, bound):
+        raise InvalidNumber(value)
+
+
 def check_company(kinds, company):
     """Refuse kinds, then a company of them."""
     check_kinds(kinds)
@@ -88,6 +94,12 @@ def check_companies(kinds, one, other):
         raise InvalidCompany(other)
     if len(one) != len(other):
         raise Unlike(other)
+
+
+def check_person(company, person):
+    """Refuse what is no person of a company."""
+    if not is_below(person, len(company)):
+        raise InvalidPerson(person)
 
 
 def check_couple(company, couple):
