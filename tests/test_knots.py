@@ -101,6 +101,28 @@ class KnotsTest(unittest.TestCase):
                 helper.refusal(self, InvalidLot, wrong, function, 2, PATH, wrong)
 
 
+class AskedOftenTest(unittest.TestCase):
+    """Inputs that were slow; asked again and again, they have the same answers."""
+
+    def ask(self, expected, function, *arguments):
+        for _ in range(50):
+            self.assertEqual(function(*arguments), expected)
+
+    def test_forty_people_in_layers_of_two_kinds(self):
+        layers = [[size - 2 * (size // 2)] * size for size in range(40)]
+        expected = [(list(range(many)), (many - 1) % 2, [list(range(many - 1)), [many - 1]]) for many in range(2, 41)]
+        self.ask(expected, knots, 2, layers)
+        self.ask(list(range(22)), knot_of, 2, layers, [0, 7, 21])
+
+    def test_forty_people_of_one_kind(self):
+        same = [[2] * size for size in range(40)]
+        self.ask([(list(range(40)), 2, [[person] for person in range(40)])], knots, 3, same)
+
+    def test_eighteen_people_in_a_row(self):
+        row = [[]] + [[0] * (size - 1) + [1] for size in range(1, 18)]
+        self.ask([(list(range(18)), None, [[person] for person in range(18)])], knots, 2, row)
+
+
 class LimitsTest(unittest.TestCase):
     def test_large_companies_with_told_knots(self):
         rng = Random(12)

@@ -227,6 +227,17 @@ class BetweenTest(unittest.TestCase):
 
 
 class NotJoinedTest(unittest.TestCase):
+    def test_all_pairs_of_small_companies(self):
+        for kinds, people in ((2, 1), (2, 2), (2, 3), (2, 4), (3, 3)):
+            classes = helper.classes_by_deeds(kinds, people)
+            number = {repr(company): at for at, row in enumerate(classes) for company in row}
+            for one in helper.companies_of(kinds, people):
+                for other in helper.companies_of(kinds, people):
+                    joined = number[repr(one)] == number[repr(other)]
+                    self.assertIs(distance(kinds, one, other) is not None, joined)
+                    self.assertIs(road(kinds, one, other) is not None, joined)
+                    self.assertIs(how_many_roads(kinds, one, other) > 0, joined)
+
     def test_between_companies_that_are_not_joined_there_is_no_road(self):
         row = helper.row_of_friends(4)
         for one, other in ((row, ONE), (ONE, row), ([[], [0], [0, 0]], [[], [1], [1, 1]])):

@@ -17,91 +17,140 @@ def first_parting(ties, lot):
     return None
 
 
-def tellers_of(ties):
-    """For each two persons the thirds who tell them apart, having unlike ties to them."""
-    return [[tellers_between(ties, one, other) for other in range(len(ties))] for one in range(len(ties))]
+def nets_of(company):
+    """For each kind that stands there a list: the bits of those to whom each person has this tie.
 
-
-def tellers_between(ties, one, other):
-    """The thirds who have unlike ties to two persons."""
-    return [
-        third for third, row in enumerate(ties)
-        if row[one] != row[other] and third != one and third != other
-    ]
-
-
-def grown(tellers, lot, enough):
-    """The least house of a lot; it stops growing when it has enough people.
-
-    Who tells anybody of a house from its first person belongs to it, and nobody else has to.
+    Many people are kept in one number, a bit for each of them: so all of them are looked at in one step.
     """
-    held = {person: True for person in lot}
-    waiting = list(lot)
-    while waiting and len(held) < enough:
-        person = waiting.pop()
-        for third in tellers[lot[0]][person]:
-            if third not in held:
-                held[third] = True
-                waiting.append(third)
-    return sorted(held)
+    nets = {}
+    for other, row in enumerate(company):
+        for one, kind in enumerate(row):
+            if kind not in nets:
+                nets[kind] = [0] * len(company)
+            net = nets[kind]
+            net[one] |= 1 << other
+            net[other] |= 1 << one
+    return nets
 
 
-def linked_parts(ties, people, kind):
-    """The lots of people who hang together by ties that are not of a kind, in order."""
+def bits_of(people):
+    """The number that has the bits of some people."""
+    bits = 0
+    for person in people:
+        bits |= 1 << person
+    return bits
+
+
+def people_of(bits, people):
+    """The list of those of some people whose bits a number has, none but these."""
+    # Most lots at a knot are one person.
+    if bits & (bits - 1) == 0:
+        return [bits.bit_length() - 1]
+    return [person for person in people if bits >> person & 1]
+
+
+def grown(nets, held, whole):
+    """The bits of the least house that holds some people, who all are in a house.
+
+    Who tells anybody of a house from its last person belongs to it, and nobody else has to.
+    """
+    last = held.bit_length() - 1
+    waiting = held ^ (1 << last)
+    while waiting and held != whole:
+        person = waiting.bit_length() - 1
+        waiting ^= 1 << person
+        tellers = 0
+        for net in nets.values():
+            tellers |= net[last] ^ net[person]
+        # The two themselves seem to be tellers if they have a tie, but they are held.
+        waiting |= tellers & ~held
+        held |= tellers
+    return held
+
+
+def linked_parts(net, whole):
+    """The bits of those people of a house who hang together by ties that are not of the kind of a net."""
     parts = []
-    left = list(people)
+    left = whole
     while left:
-        part = [left[0]]
-        waiting = [left[0]]
-        left = left[1:]
-        while waiting:
-            person = waiting.pop()
-            reached = [other for other in left if ties[person][other] != kind]
-            left = [other for other in left if ties[person][other] == kind]
-            part.extend(reached)
-            waiting.extend(reached)
-        parts.append(sorted(part))
-    return parts
-
-
-def prime_parts(tellers, people):
-    """The lots of the parts of a prime knot, in order: people are in one part if they have a lesser house."""
-    parts = []
-    left = list(people)
-    enough = len(people)
-    while left:
-        first = left[0]
-        part = [first] + [
-            other for other in left[1:] if len(grown(tellers, [first, other], enough)) < enough
-        ]
-        left = [person for person in left if person not in part]
+        waiting = 1 << (left.bit_length() - 1)
+        part = waiting
+        left ^= part
+        while waiting and left:
+            person = waiting.bit_length() - 1
+            reached = left & ~net[person]
+            waiting = (waiting ^ (1 << person)) | reached
+            part |= reached
+            left ^= reached
         parts.append(part)
     return parts
 
 
-def kind_and_parts(ties, tellers, people):
-    """The kind of a knot, None if it is prime, and the lots of its parts, in order."""
-    first = people[0]
-    # A knot of a kind has ties of it from each person to somebody: other kinds need not be tried.
-    for kind in sorted({ties[first][other] for other in people[1:]}):
-        parts = linked_parts(ties, people, kind)
-        if len(parts) > 1:
-            return kind, parts
-    return None, prime_parts(tellers, people)
+def houses_without(nets, whole, person):
+    """The bits of the greatest houses within a house that do not hold a person of it.
+
+    A lot is parted by whoever outside of it has unlike ties to its people, until nobody has. Each lot comes with the
+    bits of those outside who have not been asked.
+    """
+    houses = []
+    waiting = [(whole ^ (1 << person), 1 << person)]
+    while waiting:
+        lot, outside = waiting.pop()
+        pieces = [lot]
+        while outside and len(pieces) == 1 and lot & (lot - 1):
+            teller = outside.bit_length() - 1
+            outside ^= 1 << teller
+            pieces = [lot & net[teller] for net in nets.values() if lot & net[teller]]
+        if len(pieces) == 1:
+            houses.append(lot)
+        else:
+            waiting.extend([(piece, outside | (lot ^ piece)) for piece in pieces])
+    return houses
+
+
+def prime_parts(nets, whole):
+    """The bits of the parts of a prime knot.
+
+    A greatest house without the last person is a part, unless both are within a lesser house than the knot: then it
+    is within the part of that person.
+    """
+    last = whole.bit_length() - 1
+    own = 1 << last
+    parts = []
+    for house in houses_without(nets, whole, last):
+        if house & own == 0:
+            held = grown(nets, (1 << last) | (1 << (house.bit_length() - 1)), whole)
+            if held == whole:
+                parts.append(house)
+            else:
+                own |= held | house
+    return parts + [own]
+
+
+def kind_and_parts(nets, whole):
+    """The kind of a knot, None if it is prime, and the bits of its parts."""
+    last = whole.bit_length() - 1
+    for kind, net in nets.items():
+        # A knot of a kind has ties of it from each person to somebody: other kinds need not be tried.
+        if net[last] & whole:
+            parts = linked_parts(net, whole)
+            if len(parts) > 1:
+                return kind, parts
+    return None, prime_parts(nets, whole)
 
 
 def tree_of_houses(company):
     """All knots, as tuples of their people, their kind and their parts, in the order of their people."""
-    ties = ties_of(company)
-    tellers = tellers_of(ties)
+    nets = nets_of(company)
     tree = []
-    waiting = [list(range(len(company)))]
+    waiting = [((1 << len(company)) - 1, list(range(len(company))))]
     while waiting:
-        people = waiting.pop()
+        whole, people = waiting.pop()
         if len(people) > 1:
-            kind, parts = kind_and_parts(ties, tellers, people)
-            tree.append((people, kind, parts))
-            waiting.extend([list(part) for part in parts])
+            kind, found = kind_and_parts(nets, whole)
+            parts = [(bits, people_of(bits, people)) for bits in found]
+            tree.append((people, kind, sorted([part for _, part in parts])))
+            waiting.extend([(bits, list(part)) for bits, part in parts])
     return sorted(tree, key=lambda knot: knot[0])
 
 
@@ -138,7 +187,8 @@ def least_house(kinds, company, lot):
     """The house that lies within all houses that hold a lot."""
     check_company(kinds, company)
     check_lot(company, lot)
-    return grown(tellers_of(ties_of(company)), lot, len(company))
+    people = list(range(len(company)))
+    return people_of(grown(nets_of(company), bits_of(lot), bits_of(people)), people)
 
 
 def how_many_houses(kinds, company):

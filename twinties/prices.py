@@ -74,7 +74,7 @@ def next_settled(ahead, turns):
         if taken & 1 == 0:
             for further, more, kinds, mark in turns:
                 if taken >> further & 1 == 0:
-                    offer(best, (taken | 1 << further) >> 1, gain + more, ways * kinds, marks + (mark,))
+                    offer(best, (taken | (1 << further)) >> 1, gain + more, ways * kinds, marks + (mark,))
     return best
 
 
