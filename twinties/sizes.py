@@ -40,9 +40,7 @@ def size_of_class(kinds, groups):
 
 
 def pairings(people, couples):
-    """How many lots of so many couples, no two with a person in common, so many people have."""
-    if 2 * couples > people:
-        return 0
+    """How many lots of so many couples, no two with a person in common, so many people have (enough for them)."""
     return factorial(people) // ((1 << couples) * factorial(couples) * factorial(people - 2 * couples))
 
 
