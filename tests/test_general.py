@@ -6,6 +6,9 @@ import unittest
 from copy import deepcopy
 
 from tests import helper
+from tests.test_programs import WRONG_PROGRAMS, WRONG_STATE_LOTS, WRONG_STATES
+from tests.test_stairs import WRONG_TOLLS
+from tests.test_wishes import WRONG_WISHES
 from twinties import errors
 
 INTERFACE = {
@@ -65,6 +68,31 @@ INTERFACE = {
         "price_of(kinds, company, prices)", "cheapest(kinds, company, prices)",
         "is_cheapest(kinds, company, prices, value)", "how_many_cheapest(kinds, company, prices)",
     ],
+    "twinties.stairs": [
+        "least_by_turned(kinds, company, prices)", "fee_stairs(kinds, company, prices)",
+        "road_price(kinds, one, other, tolls)",
+    ],
+    "twinties.wishes": [
+        "can_meet(kinds, company, wishes)", "refusing_four(kinds, company, wishes)",
+        "is_refusing(kinds, company, wishes, value)", "sure_under(kinds, company, wishes)",
+        "nearest(kinds, company, wishes)", "how_many_meet(kinds, company, wishes)",
+        "first_meeting(kinds, company, wishes)", "is_meeting(kinds, company, wishes, value)",
+        "quarrel(kinds, company, wishes, others)",
+    ],
+    "twinties.programs": [
+        "is_program(value)", "run(kinds, company, program)", "states_of(kinds, lot)", "how_many_states(kinds, many)",
+        "state_after(kinds, lot, state, program)", "programs_alike(kinds, one, other)",
+        "parting_state(kinds, one, other)", "parting_company(kinds, one, other)", "undone_program(kinds, program)",
+    ],
+    "twinties.blocks": [
+        "blocks_of(kinds, company, program)", "rounds_of(kinds, program)",
+        "run_often(kinds, company, program, times)",
+    ],
+}
+# What a parameter stands for where this is not what it stands for in most modules.
+MEANINGS = {
+    ("twinties.programs", "lot"): "state lot", ("twinties.programs", "one"): "program",
+    ("twinties.programs", "other"): "other program", ("twinties.programs", "many"): "count",
 }
 
 FIVE = [[], [1], [1, 1], [0, 0, 0], [0, 0, 0, 1]]
@@ -136,6 +164,14 @@ WRONG = {
     "person": (errors.InvalidPerson, WRONG_PERSONS),
     "second": (errors.InvalidCouple, helper.WRONG_COUPLES),
     "prices": (errors.InvalidPrices, WRONG_PRICES),
+    "tolls": (errors.InvalidPrices, WRONG_TOLLS),
+    "wishes": (errors.InvalidWishes, WRONG_WISHES),
+    "others": (errors.InvalidWishes, WRONG_WISHES),
+    "program": (errors.InvalidProgram, WRONG_PROGRAMS),
+    "other program": (errors.InvalidProgram, WRONG_PROGRAMS),
+    "state lot": (errors.InvalidLot, WRONG_STATE_LOTS),
+    "state": (errors.InvalidWishes, WRONG_STATES),
+    "times": (errors.InvalidNumber, WRONG_COUNTS),
 }
 
 # Nothing may be refused with these.
@@ -144,6 +180,9 @@ GOOD = {
     "other": [[], [0], [1, 1], [0, 0, 0], [0, 0, 0, 0]], "deed": (0, 1, 0), "road": [(0, 1, 0), (3, 4, 0)],
     "marks": [(0, 2, 0), (3, 4, 1)], "third": [[], [1], [1, 0], [0, 0, 0], [0, 0, 0, 0]], "ties": [1, 1, 0, 0, 1],
     "count": 6, "people": 5, "number": 3, "kind": 1, "person": 3, "second": (1, 2), "prices": PRICES,
+    "tolls": [[0, 3], [2, 9]], "wishes": [(0, 1, 0), (3, 4, 1)], "others": [(0, 2, 1)],
+    "program": [(0, 1), (1, 2), (2, 4)], "other program": [(3, 4), (1, 2)], "state lot": [0, 2, 5],
+    "state": [(0, 5, 1)], "times": helper.THIRTY_FIGURES,
 }
 SAMPLES = [
     GOOD,
@@ -153,27 +192,38 @@ SAMPLES = [
         "other": [[], [1], [0, 2], [0, 0, 1], [1, 0, 1, 0]], "deed": (1, 4, 0), "road": [(1, 4, 0), (1, 4, 1)],
         "marks": [(1, 4, 0)], "number": 2, "kind": 2, "person": 4, "second": (0, 4),
         "prices": [[[1, 0, -2] for _ in range(person)] for person in range(5)],
+        "tolls": [[1, 2, 3], [3, 2, 1], [0, 0, 0]], "wishes": [(0, 1, 1), (1, 4, 2)], "others": [(1, 4, 1)],
+        "program": [(1, 4), (0, 1), (1, 4)], "other program": [(1, 4), (1, 4)], "state lot": [1, 2, 4, 38, 39],
+        "state": [(1, 4, 2), (38, 39, 1)], "times": 7,
     },
     {
         "kinds": 9, "company": [[]], "lot": [0], "order": [0], "one": [[]], "other": [[]], "road": [], "marks": [],
         "third": [[]], "ties": [8], "count": 300, "people": 0, "number": 0, "kind": 8, "person": 0, "prices": [[]],
+        "tolls": [[0] * 9 for _ in range(9)], "wishes": [], "others": [], "program": [], "other program": [],
+        "state lot": [39], "state": [], "times": 0,
     },
     {
         "kinds": 9, "company": [[], [8]], "couple": (0, 1), "lot": [0, 1], "order": [1, 0], "one": [[], [8]],
         "other": [[], [0]], "deed": (0, 1, 7), "road": [(0, 1, 7), (0, 1, 8), (0, 1, 3)], "marks": [(0, 1, 5)],
         "third": [[], [3]], "ties": [5, 5], "people": 300, "number": 8, "kind": 3, "person": 1,
-        "prices": [[], [[0, 1, 2, -3, 4, 5, 6, 7, -3]]],
+        "prices": [[], [[0, 1, 2, -3, 4, 5, 6, 7, -3]]], "tolls": [[here] * 9 for here in range(9)],
+        "wishes": [(0, 1, 7)], "others": [(0, 1, 6)], "program": [(0, 1)], "other program": [(0, 1)] * 10,
+        "state lot": [0, 1], "state": [(0, 1, 8)], "times": 13,
     },
     {
         "kinds": 2, "company": helper.layered([4, 2, 3]), "couple": (0, 3), "lot": [0, 3, 8], "order": list(range(9)),
         "one": helper.layered([4, 2, 3]), "other": helper.row_of_friends(9), "deed": (0, 1, 1), "road": [(0, 1, 1)],
         "marks": [], "number": 19, "kind": 0, "person": 8, "second": (0, 1),
         "prices": [[[person, before] for before in range(person)] for person in range(9)],
+        "wishes": [(0, 1, 1), (2, 3, 0), (4, 5, 0)], "others": [(2, 3, 0), (6, 7, 1)],
+        "program": [(0, 1), (1, 3), (7, 8), (0, 1)], "other program": [(0, 1), (7, 8), (1, 3), (0, 1)],
+        "state lot": [3, 5, 7, 9, 11, 13], "state": [(3, 13, 1), (7, 9, 1)], "times": 3,
     },
 ]
 VALUES = {
     "is_company": "company", "is_deed": "deed", "is_road": "road", "is_parting_lot": "lot", "is_shortest": "road",
-    "is_between": "other", "is_member": "other", "is_cheapest": "other",
+    "is_between": "other", "is_member": "other", "is_cheapest": "other", "is_refusing": "lot", "is_meeting": "other",
+    "is_program": "program",
 }
 
 
@@ -185,9 +235,19 @@ def landed():
             yield module, getattr(importlib.import_module(module), name), names.split(", ")
 
 
+def meaning(function, name):
+    """What a parameter of a function stands for."""
+    return VALUES[function.__name__] if name == "value" else MEANINGS.get((function.__module__, name), name)
+
+
+def wrong_for(function, name):
+    """The error that a parameter is refused with and values that are refused; None for one that takes any value."""
+    return None if name == "value" else WRONG.get(meaning(function, name))
+
+
 def arguments_for(function, names, sample):
     """The arguments of a sample, None if it has not all that the function needs."""
-    wanted = [VALUES[function.__name__] if name == "value" else name for name in names]
+    wanted = [meaning(function, name) for name in names]
     if any(name not in sample for name in wanted):
         return None
     # The companies of a sample are joined exactly if it has ties for a person who comes.
@@ -233,23 +293,25 @@ class RefusalTest(unittest.TestCase):
     def test_each_wrong_argument_is_told(self):
         for _, function, names in landed():
             for place, name in enumerate(names):
-                for wrong in WRONG[name][1] if name in WRONG else []:
+                error, values = wrong_for(function, name) or (None, [])
+                for wrong in values:
                     with self.subTest(function=function.__name__, name=name, wrong=wrong):
                         arguments = self.good(function, names)
                         arguments[place] = wrong
-                        helper.refusal(self, WRONG[name][0], wrong, function, *arguments)
+                        helper.refusal(self, error, wrong, function, *arguments)
 
     def test_of_two_wrong_arguments_the_one_ahead_is_told(self):
         for _, function, names in landed():
-            told = [name for name in names if name in WRONG]
+            told = [name for name in names if wrong_for(function, name)]
             for place, name in enumerate(told):
+                error, values = wrong_for(function, name)
                 for behind in told[place + 1:]:
-                    for wrong in WRONG[name][1]:
-                        for also in WRONG[behind][1][:3]:
+                    for wrong in values:
+                        for also in wrong_for(function, behind)[1][:3]:
                             arguments = dict(zip(names, self.good(function, names)))
                             arguments[name] = wrong
                             arguments[behind] = also
-                            helper.refusal(self, WRONG[name][0], wrong, function, **arguments)
+                            helper.refusal(self, error, wrong, function, **arguments)
 
     def test_with_any_value_the_other_arguments_are_checked_first(self):
         for _, function, names in landed():
@@ -257,15 +319,15 @@ class RefusalTest(unittest.TestCase):
                 for name in names[:-1]:
                     for value in helper.ANYTHING:
                         arguments = dict(zip(names, self.good(function, names)))
-                        wrong = WRONG[name][1][-1]
-                        arguments[name] = wrong
+                        error, values = wrong_for(function, name)
+                        arguments[name] = values[-1]
                         arguments["value"] = value
-                        helper.refusal(self, WRONG[name][0], wrong, function, **arguments)
+                        helper.refusal(self, error, values[-1], function, **arguments)
 
     def test_unlike_numbers_of_people_are_told_behind_both(self):
         four = [[], [0], [0, 0], [0, 0, 0]]
         for _, function, names in landed():
-            if "other" in names:
+            if "other" in [meaning(function, name) for name in names if name != "value"]:
                 arguments = dict(zip(names, self.good(function, names)))
                 for one, other in ((FIVE, four), (four, FIVE), ([[]], FIVE), (FIVE, [[]])):
                     arguments["one"] = one
@@ -273,19 +335,19 @@ class RefusalTest(unittest.TestCase):
                     helper.refusal(self, errors.Unlike, other, function, **arguments)
                     for wrong in WRONG["kinds"][1]:
                         helper.refusal(self, errors.InvalidNumber, wrong, function, **{**arguments, "kinds": wrong})
-                    if "lot" in names:
-                        for wrong in WRONG["lot"][1]:
-                            helper.refusal(self, errors.Unlike, other, function, **{**arguments, "lot": wrong})
+                    for name in ("lot", "tolls"):
+                        for wrong in WRONG[name][1] if name in names else []:
+                            helper.refusal(self, errors.Unlike, other, function, **{**arguments, name: wrong})
 
     def test_a_company_of_more_kinds_is_refused(self):
         more = [[], [1], [1, 1], [0, 0, 0], [0, 0, 0, 2]]
         for _, function, names in landed():
             for place, name in enumerate(names):
-                if name in ("company", "one", "other"):
+                if name != "value" and meaning(function, name) in ("company", "one", "other"):
                     arguments = self.good(function, names)
                     arguments[place] = more
                     helper.refusal(self, errors.InvalidCompany, more, function, *arguments)
-                    if "prices" not in names:
+                    if "prices" not in names and "tolls" not in names:
                         arguments[0] = 3
                         function(*arguments)
 
@@ -309,7 +371,7 @@ class MannersTest(unittest.TestCase):
     def test_arguments_stay_as_they_were_when_they_are_refused(self):
         for _, function, names in landed():
             for place, name in enumerate(names):
-                for wrong in WRONG[name][1] if name in WRONG else []:
+                for wrong in (wrong_for(function, name) or (None, []))[1]:
                     arguments = arguments_for(function, names, GOOD)
                     arguments[place] = deepcopy(wrong)
                     before = deepcopy(arguments)

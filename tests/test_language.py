@@ -28,6 +28,7 @@ METHODS = set(
     "items join keys ljust lower lstrip partition pop remove replace reverse rfind rjust rpartition rsplit rstrip "
     "setdefault split splitlines startswith strip update upper values zfill bit_length".split()
 )
+DOUBLE = ("__init__", "__eq__")
 BARRED = (
     "type|typing|typing_extensions|enum|Enum|IntEnum|StrEnum|Flag|IntFlag|Generic|Protocol|ABC|ABCMeta|namedtuple|"
     "NamedTuple|TypedDict|TYPE_CHECKING|abstractmethod|register|mro|elements|open|input|law|eval|exec|globals|locals"
@@ -140,7 +141,7 @@ class LanguageTest(unittest.TestCase):
         for path, tree in trees():
             classes = [node.name for node in tree.body if isinstance(node, ast.ClassDef)]
             imported = [alias.name for node in imports(tree) for alias in node.names]
-            named = [node.name for node in functions(tree) if node.name != "__init__"]
+            named = [node.name for node in functions(tree) if node.name not in DOUBLE]
             top = classes + imported + [node.name for node in tree.body if isinstance(node, ast.FunctionDef)]
             self.assertEqual(len(set(top)), len(top), path)
             for name in stored(tree) + named + classes:

@@ -46,6 +46,13 @@ def is_couple(many, value):
     return is_below(value[1], many) and is_below(value[0], value[1])
 
 
+def is_couple_with_kind(kinds, many, value):
+    """Whether a value is a tuple `(one, other, kind)` of a couple of so many people and of a kind."""
+    if not isinstance(value, tuple) or len(value) != 3:
+        return False
+    return is_couple(many, value[:2]) and is_below(value[2], kinds)
+
+
 def is_lot(many, value):
     """Whether a value is a lot of so many people."""
     if not isinstance(value, list) or not 1 <= len(value) <= many:

@@ -3,7 +3,7 @@
 from itertools import combinations
 
 from twinties.checks import check_companies, check_company, check_couple, check_kinds, check_lot
-from twinties.checks import is_below, is_company_of, is_couple, is_order
+from twinties.checks import is_company_of, is_couple_with_kind, is_order
 from twinties.errors import InvalidDeed, InvalidLot
 
 
@@ -50,10 +50,10 @@ def couples_unlike(one, other):
 
 def is_deed_now(kinds, ties, value):
     """Whether a value is a deed in the company that has such ties."""
-    if not isinstance(value, tuple) or len(value) != 3 or not is_couple(len(ties), value[:2]):
+    if not is_couple_with_kind(kinds, len(ties), value):
         return False
     one, other, kind = value
-    return is_below(kind, kinds) and kind != ties[one][other] and are_alike(ties, one, other)
+    return kind != ties[one][other] and are_alike(ties, one, other)
 
 
 def followed(kinds, company, road):

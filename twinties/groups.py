@@ -1,17 +1,15 @@
 """Groups of people whose ties can be turned, and the marks that tell how they are ([17] to [19])."""
 
-from twinties.checks import check_company, is_below, is_couple
+from twinties.checks import check_company, is_couple_with_kind
 from twinties.errors import InvalidWishes
 from twinties.letdown import base_company, groups_let_down, marks_within
 
 
 def is_mark(kinds, company, groups, value):
     """Whether a value tells a couple of one group, and a kind that is not its base."""
-    if not isinstance(value, tuple) or len(value) != 3 or not is_couple(len(company), value[:2]):
+    if not is_couple_with_kind(kinds, len(company), value):
         return False
     one, other, kind = value
-    if not is_below(kind, kinds):
-        return False
     return any([one in people and other in people and kind != base for people, base in groups])
 
 

@@ -47,10 +47,10 @@ def offer(best, taken, gain, ways, marks):
 
 
 def group_turns(group, prices):
-    """For each place in a group the tuples `(further, gain, kinds, mark)` of the couples that cost no more turned.
+    """For each place in a group the tuples `(further, gain, kinds, mark)` of its couples with those behind.
 
-    `further` is how many places further on the other one of the couple stands, `kinds` the number of its cheapest
-    other kinds, `mark` one of these.
+    `further` is how many places further on the other one of the couple stands, `gain` what turning it saves, `kinds`
+    the number of its cheapest other kinds, `mark` one of these.
     """
     people, base = group
     turns = []
@@ -59,9 +59,8 @@ def group_turns(group, prices):
         for other in range(place + 1, len(people)):
             told = prices[people[other]][low]
             kinds = cheapest_kinds(told, base)
-            gain = told[base] - told[kinds[0]]
-            if gain >= 0:
-                found.append((other - place, gain, len(kinds), (low, people[other], kinds[0])))
+            mark = (low, people[other], kinds[0])
+            found.append((other - place, told[base] - told[kinds[0]], len(kinds), mark))
         turns.append(found)
     return turns
 
@@ -86,7 +85,7 @@ def best_of_group(group, prices):
     """
     best = {0: (0, 1, ())}
     for turns in group_turns(group, prices):
-        best = next_settled(best, turns)
+        best = next_settled(best, [turn for turn in turns if turn[1] >= 0])
     _, ways, marks = best[0]
     return ways, marks
 
