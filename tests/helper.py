@@ -3,7 +3,9 @@
 from functools import lru_cache
 from itertools import combinations, product
 
+from twinties.book import CompanyBook
 from twinties.companies import deeds, done
+from twinties.errors import InvalidCompany, TieError
 
 THIRTY_FIGURES = 10 ** 29
 
@@ -55,7 +57,8 @@ def nested(depth):
     return value
 
 
-ANYTHING.append(nested(29))
+ANYTHING.extend([nested(29), TieError("text"), InvalidCompany([[], [1]]), CompanyBook(2, [[], [1]])])
+ANYTHING.append((CompanyBook(2, [[]]), TieError()))
 
 
 def companies_of(kinds, people):

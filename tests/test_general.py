@@ -6,10 +6,14 @@ import unittest
 from copy import deepcopy
 
 from tests import helper
+from tests.test_book import NO_BOOKS
+from tests.test_lines import WRONG_LINES
 from tests.test_programs import WRONG_PROGRAMS, WRONG_STATE_LOTS, WRONG_STATES
+from tests.test_shuffles import FAMILY, WRONG_FAMILIES
 from tests.test_stairs import WRONG_TOLLS
 from tests.test_wishes import WRONG_WISHES
 from twinties import errors
+from twinties.book import CompanyBook
 
 INTERFACE = {
     "twinties.companies": [
@@ -88,11 +92,29 @@ INTERFACE = {
         "blocks_of(kinds, company, program)", "rounds_of(kinds, program)",
         "run_often(kinds, company, program, times)",
     ],
+    "twinties.shuffles": [
+        "shuffle_of(kinds, lot, program)", "is_told(kinds, many, value)", "made_program(kinds, family)",
+        "how_many_programs(kinds, many)", "shortest_program(program)",
+    ],
+    "twinties.leagues": [
+        "is_league(value)", "beats(league, person, loser)", "league_couples(league)", "turned(league, couple)",
+        "are_joined_leagues(one, other)", "parting_people(one, other)", "league_turns(one, other)",
+        "league_road(one, other)", "is_league_road(one, other, value)",
+    ],
+    "twinties.rows": [
+        "runs(league)", "league_class_size(league)", "leagues_by_turns(league)", "is_sure_result(league, couple)",
+        "sure_people(league, couple)", "league_at(league, number)", "league_number(league)",
+    ],
+    "twinties.lines": ["line_of(kinds, company)", "of_line(line)"],
+    "twinties.book": ["is_step(book, value)"],
 }
 # What a parameter stands for where this is not what it stands for in most modules.
 MEANINGS = {
     ("twinties.programs", "lot"): "state lot", ("twinties.programs", "one"): "program",
     ("twinties.programs", "other"): "other program", ("twinties.programs", "many"): "count",
+    ("twinties.shuffles", "lot"): "state lot", ("twinties.shuffles", "program"): "program of three",
+    ("twinties.leagues", "couple"): "couple who stand alike", ("twinties.leagues", "one"): "league",
+    ("twinties.leagues", "other"): "other league", ("twinties.rows", "number"): "league number",
 }
 
 FIVE = [[], [1], [1, 1], [0, 0, 0], [0, 0, 0, 1]]
@@ -172,6 +194,16 @@ WRONG = {
     "state lot": (errors.InvalidLot, WRONG_STATE_LOTS),
     "state": (errors.InvalidWishes, WRONG_STATES),
     "times": (errors.InvalidNumber, WRONG_COUNTS),
+    "program of three": (errors.InvalidProgram, WRONG_PROGRAMS),
+    "many": (errors.InvalidNumber, WRONG_COUNTS),
+    "family": (errors.InvalidWishes, WRONG_FAMILIES),
+    "league": (errors.InvalidLeague, helper.WRONG_COMPANIES),
+    "other league": (errors.InvalidLeague, helper.WRONG_COMPANIES),
+    "loser": (errors.InvalidPerson, WRONG_PERSONS + [3]),
+    "couple who stand alike": (errors.InvalidCouple, helper.WRONG_COUPLES + [(0, 2)]),
+    "league number": (errors.InvalidNumber, WRONG_COUNTS + [120]),
+    "line": (errors.InvalidLine, WRONG_LINES),
+    "book": (errors.InvalidDeed, [value for value in NO_BOOKS if not isinstance(value, Exception)]),
 }
 
 # Nothing may be refused with these.
@@ -182,7 +214,11 @@ GOOD = {
     "count": 6, "people": 5, "number": 3, "kind": 1, "person": 3, "second": (1, 2), "prices": PRICES,
     "tolls": [[0, 3], [2, 9]], "wishes": [(0, 1, 0), (3, 4, 1)], "others": [(0, 2, 1)],
     "program": [(0, 1), (1, 2), (2, 4)], "other program": [(3, 4), (1, 2)], "state lot": [0, 2, 5],
-    "state": [(0, 5, 1)], "times": helper.THIRTY_FIGURES,
+    "state": [(0, 5, 1)], "times": helper.THIRTY_FIGURES, "program of three": [(0, 1), (1, 2), (0, 1), (0, 2)],
+    "many": 3, "family": FAMILY, "league": [[], [0], [0, 0], [0, 0, 0], [0, 0, 0, 0]],
+    "other league": [[], [1], [1, 1], [0, 1, 0], [0, 0, 0, 0]], "loser": 0, "couple who stand alike": (0, 1),
+    "line": "2:1,01", "book": CompanyBook(2, FIVE), "turns": [(0, 1), (0, 1)], "step": ("come", [1, 0, 1, 0, 1]),
+    "league number": 100,
 }
 SAMPLES = [
     GOOD,
@@ -194,13 +230,20 @@ SAMPLES = [
         "prices": [[[1, 0, -2] for _ in range(person)] for person in range(5)],
         "tolls": [[1, 2, 3], [3, 2, 1], [0, 0, 0]], "wishes": [(0, 1, 1), (1, 4, 2)], "others": [(1, 4, 1)],
         "program": [(1, 4), (0, 1), (1, 4)], "other program": [(1, 4), (1, 4)], "state lot": [1, 2, 4, 38, 39],
-        "state": [(1, 4, 2), (38, 39, 1)], "times": 7,
+        "state": [(1, 4, 2), (38, 39, 1)], "times": 7, "program of three": [(0, 1)] * 5 + [(1, 2)], "many": 4,
+        "family": [[2, 0, 1], [0, 1, 2], [1, 2, 0], [1, 2, 0, 3, 4, 5, 6]],
+        "league": [[], [0], [0, 0], [0, 1, 0], [0, 0, 0, 0]],
+        "other league": [[], [0], [0, 0], [0, 1, 0], [0, 1, 1, 1]], "loser": 2, "line": "3:2,01",
+        "book": CompanyBook(3, [[], [1], [0, 1], [0, 0, 1], [1, 2, 1, 0]]), "turns": [(0, 4)],
+        "step": ("rename", [4, 1, 0, 3, 2]), "league number": 0,
     },
     {
         "kinds": 9, "company": [[]], "lot": [0], "order": [0], "one": [[]], "other": [[]], "road": [], "marks": [],
         "third": [[]], "ties": [8], "count": 300, "people": 0, "number": 0, "kind": 8, "person": 0, "prices": [[]],
         "tolls": [[0] * 9 for _ in range(9)], "wishes": [], "others": [], "program": [], "other program": [],
-        "state lot": [39], "state": [], "times": 0,
+        "state lot": [39], "state": [], "times": 0, "program of three": [], "many": 0,
+        "league": [[]], "other league": [[]], "line": "9:", "book": CompanyBook(9, [[]]), "turns": [],
+        "step": ("come", [8]), "league number": 0,
     },
     {
         "kinds": 9, "company": [[], [8]], "couple": (0, 1), "lot": [0, 1], "order": [1, 0], "one": [[], [8]],
@@ -208,7 +251,9 @@ SAMPLES = [
         "third": [[], [3]], "ties": [5, 5], "people": 300, "number": 8, "kind": 3, "person": 1,
         "prices": [[], [[0, 1, 2, -3, 4, 5, 6, 7, -3]]], "tolls": [[here] * 9 for here in range(9)],
         "wishes": [(0, 1, 7)], "others": [(0, 1, 6)], "program": [(0, 1)], "other program": [(0, 1)] * 10,
-        "state lot": [0, 1], "state": [(0, 1, 8)], "times": 13,
+        "state lot": [0, 1], "state": [(0, 1, 8)], "times": 13, "program of three": [(1, 2)] * 3, "many": 1,
+        "league": [[], [1]], "other league": [[], [0]], "loser": 0, "couple who stand alike": (0, 1), "line": "9:8",
+        "book": CompanyBook(9, [[], [8]]), "turns": [(0, 1)], "step": ("tie", (0, 1, 3)), "league number": 1,
     },
     {
         "kinds": 2, "company": helper.layered([4, 2, 3]), "couple": (0, 3), "lot": [0, 3, 8], "order": list(range(9)),
@@ -218,12 +263,16 @@ SAMPLES = [
         "wishes": [(0, 1, 1), (2, 3, 0), (4, 5, 0)], "others": [(2, 3, 0), (6, 7, 1)],
         "program": [(0, 1), (1, 3), (7, 8), (0, 1)], "other program": [(0, 1), (7, 8), (1, 3), (0, 1)],
         "state lot": [3, 5, 7, 9, 11, 13], "state": [(3, 13, 1), (7, 9, 1)], "times": 3,
+        "program of three": [(1, 2), (0, 1)], "many": 2, "league": helper.layered([4, 2, 3]),
+        "other league": [[0] * person for person in range(9)], "loser": 7, "couple who stand alike": (4, 5),
+        "line": "2:1,11,000,0001", "book": CompanyBook(2, helper.layered([4, 2, 3])), "turns": [(0, 1)],
+        "step": ("go", 8), "league number": 9999,
     },
 ]
 VALUES = {
     "is_company": "company", "is_deed": "deed", "is_road": "road", "is_parting_lot": "lot", "is_shortest": "road",
     "is_between": "other", "is_member": "other", "is_cheapest": "other", "is_refusing": "lot", "is_meeting": "other",
-    "is_program": "program",
+    "is_program": "program", "is_told": "family", "is_league": "league", "is_league_road": "turns", "is_step": "step",
 }
 
 

@@ -34,7 +34,7 @@ WRONG_STATES = [
 
 
 def program_by_chance(rng, persons, turns):
-    couples = list(combinations(persons, 2))
+    couples = list(combinations(sorted(persons), 2))
     return [rng.choice(couples) for _ in range(turns)]
 
 
