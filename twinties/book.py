@@ -1,7 +1,7 @@
 """A book that keeps a company through steps, which can be undone ([71] to [73])."""
 
 from twinties.checks import MOST_PEOPLE, check_company, is_below, is_order, is_row
-from twinties.companies import company_among, couples_unlike, is_deed_now, ties_of
+from twinties.companies import company_among, company_in_order, couples_unlike, is_deed_now, ties_of
 from twinties.errors import InvalidDeed, NothingToRedo, NothingToUndo
 from twinties.letdown import groups_let_down, is_of_class
 
@@ -45,8 +45,7 @@ def behind_step(company, step):
         return company + [list(told)]
     if word == "go":
         return company_among(company, [person for person in range(len(company)) if person != told])
-    ties = ties_of(company)
-    return [[ties[person][before] for before in told[:place]] for place, person in enumerate(told)]
+    return company_in_order(company, told)
 
 
 def check_book(value):

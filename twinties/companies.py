@@ -40,6 +40,12 @@ def company_among(company, lot):
     return [[company[person][before] for before in lot[:place]] for place, person in enumerate(lot)]
 
 
+def company_in_order(company, order):
+    """The company whose people stand in another order."""
+    ties = ties_of(company)
+    return [[ties[person][before] for before in order[:place]] for place, person in enumerate(order)]
+
+
 def couples_unlike(one, other):
     """All couples whose ties are unlike in two companies, in order."""
     return [
@@ -108,8 +114,7 @@ def renamed(kinds, company, order):
     check_company(kinds, company)
     if not is_order(len(company), order):
         raise InvalidLot(order)
-    ties = ties_of(company)
-    return [[ties[person][before] for before in order[:place]] for place, person in enumerate(order)]
+    return company_in_order(company, order)
 
 
 def differing(kinds, one, other):

@@ -83,14 +83,15 @@ def are_of_one_class(beaten, others):
 def first_parting_lot(beaten, others, many):
     """The first lot of so many people among which two leagues are not joined, None without one."""
     joined = {}
-    for lot in combinations(range(len(beaten)), many):
+    for people in combinations(range(len(beaten)), many):
+        lot = list(people)
         results = tuple([
             (beaten[low] >> high & 1, others[low] >> high & 1) for low, high in combinations(lot, 2)
         ])
         if results not in joined:
             joined[results] = are_of_one_class(beaten_among(beaten, lot), beaten_among(others, lot))
         if not joined[results]:
-            return list(lot)
+            return lot
     return None
 
 

@@ -65,7 +65,7 @@ def are_tolls(kinds, value):
 
 def least_tolls(tolls):
     """The least price of all ways from each kind to each other one, over any kinds."""
-    least = [list(row) for row in tolls]
+    least = tolls
     for over in range(len(tolls)):
         onward = least[over]
         least = [[min(price, row[over] + more) for price, more in zip(row, onward)] for row in least]

@@ -120,7 +120,10 @@ def ways_to_meet(kinds, group, kept, turned):
 
 
 def is_quarrel(asking, wish, other):
-    """Whether two wishes quarrel; `asking` is what those ask that the first one is of."""
+    """Whether a wish quarrels with another one, of its couple, or of a couple to be turned that has one of its people.
+
+    `asking` is what those wishes ask that the first one is of.
+    """
     if wish[:2] == other[:2]:
         return wish != other
     return asking.turned.get(wish[0]) == wish
@@ -174,10 +177,9 @@ def nearest(kinds, company, wishes):
     asking = asked_and_met(kinds, company, wishes)
     met = [list(row) for row in company]
     for group in asking.groups:
-        if group[1] is not None:
-            for low, high, _ in marks_within(company, group):
-                if low in asking.turned or high in asking.turned:
-                    met[high][low] = group[1]
+        for low, high, _ in marks_within(company, group):
+            if low in asking.turned or high in asking.turned:
+                met[high][low] = group[1]
     for low, high, kind in wishes:
         met[high][low] = kind
     return len(couples_unlike(company, met)), met
